@@ -4,6 +4,7 @@ import inspect
 import itertools
 import unittest
 
+from tests.equality import EqualityCase
 from unitwants.rules import Rule
 from unitwants.units import Unit
 
@@ -130,32 +131,20 @@ class Making(unittest.TestCase):
         self.assertEqual(repr(told["rule"]), "Rule(2, 2, 64, 5, 100)")
 
 
-class Equality(unittest.TestCase):
-    def assert_equal_units(self, one, other):
-        self.assertIs(one == other, True)
-        self.assertIs(other == one, True)
-        self.assertIs(one != other, False)
-        self.assertIs(other != one, False)
-
-    def assert_unlike(self, one, other):
-        self.assertIs(one == other, False)
-        self.assertIs(other == one, False)
-        self.assertIs(one != other, True)
-        self.assertIs(other != one, True)
-
+class Equality(EqualityCase):
     def test_the_same_eight(self):
-        self.assert_equal_units(Unit("abc"), Unit("abc"))
-        self.assert_equal_units(Unit("abc"), Unit("abc", **DEFAULTS))
-        self.assert_equal_units(Unit("abc", **FULL), Unit("abc", **FULL))
+        self.assert_same(Unit("abc"), Unit("abc"))
+        self.assert_same(Unit("abc"), Unit("abc", **DEFAULTS))
+        self.assert_same(Unit("abc", **FULL), Unit("abc", **FULL))
         unit = Unit("abc", **FULL)
-        self.assert_equal_units(unit, unit)
+        self.assert_same(unit, unit)
 
     def test_the_same_eight_as_other_objects(self):
         def made():
             return Unit("".join(["ab", "c"]), kind="".join(["do", "or"]), needs=tuple(["x", "".join(["y", "z"])]),
                         wants=tuple(["b"]), bars=tuple(["c"]), after=tuple(["d"]), opens="".join(["e", "f"]),
                         rule=Rule(top=int("5000")))
-        self.assert_equal_units(made(), made())
+        self.assert_same(made(), made())
 
     def test_unlike_in_one_alone(self):
         for name in NAMES:
@@ -173,8 +162,8 @@ class Equality(unittest.TestCase):
             self.assert_unlike(Unit("abc", **{one: ("x",)}), Unit("abc", **{other: ("x",)}))
 
     def test_rules(self):
-        self.assert_equal_units(Unit("a", rule=Rule(burst=3)), Unit("a", rule=Rule(burst=3)))
-        self.assert_equal_units(Unit("a", rule=Rule()), Unit("a", rule=Rule(first=1)))
+        self.assert_same(Unit("a", rule=Rule(burst=3)), Unit("a", rule=Rule(burst=3)))
+        self.assert_same(Unit("a", rule=Rule()), Unit("a", rule=Rule(first=1)))
         self.assert_unlike(Unit("a", rule=Rule(burst=3)), Unit("a", rule=Rule(burst=4)))
         self.assert_unlike(Unit("a", rule=Rule()), Unit("a", rule=None))
         self.assert_unlike(Unit("a", rule=Rule()), Unit("a"))
