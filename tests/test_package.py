@@ -15,6 +15,11 @@ INTERFACE = {
         "Clash", "Knot", "NoUnit", "NoShelf")}),
     "rules": (("waits",), {"Rule": ("__init__", "__eq__", "__str__", "__repr__")}),
     "units": ((), {"Unit": ("__init__", "__eq__", "__repr__")}),
+    "shelves": ((), {"Shelf": (
+        "__init__", "__len__", "names", "has", "unit", "needing", "barred", "waited", "with_unit")}),
+    "texts": (("show_unit", "show_shelf", "read_unit", "read_shelf"), {}),
+    "follows": (("at_once", "followed", "chain", "clash_in"), {}),
+    "knots": (("knot_in", "order_of"), {}),
 }
 
 BARRED_WORDS = (
@@ -26,9 +31,16 @@ ALLOWED_BUILTINS = (
     "tuple", "dict", "set", "isinstance", "ord", "repr", "any", "all", "divmod", "iter", "next", "Exception",
     "ValueError", "TypeError", "KeyError", "IndexError", "LookupError", "ZeroDivisionError", "ArithmeticError",
     "OverflowError", "RuntimeError", "NotImplementedError", "AttributeError", "StopIteration", "NotImplemented")
+BUILTIN_METHODS = (
+    "append", "clear", "copy", "count", "endswith", "extend", "find", "get", "index", "insert", "isalnum", "isalpha",
+    "isdigit", "islower", "isspace", "isupper", "items", "join", "keys", "ljust", "lower", "lstrip", "partition", "pop",
+    "remove", "replace", "reverse", "rfind", "rjust", "rpartition", "rsplit", "rstrip", "setdefault", "split",
+    "splitlines", "startswith", "strip", "update", "upper", "values", "zfill", "bit_length")
 SPECIAL_METHODS = ("__init__", "__eq__", "__repr__", "__str__", "__len__")
+# A generator expression may stand in few places, as classes of the package have __eq__; so none is used at all.
 BARRED_NODES = (
-    ast.Global, ast.AsyncFunctionDef, ast.AsyncFor, ast.AsyncWith, ast.Await, ast.Import, ast.Div, ast.MatMult)
+    ast.Global, ast.AsyncFunctionDef, ast.AsyncFor, ast.AsyncWith, ast.Await, ast.Import, ast.Div, ast.MatMult,
+    ast.GeneratorExp)
 
 
 def source_names():
@@ -46,6 +58,14 @@ def trees():
 
 def nodes(kind):
     return [(name, node) for name, tree in trees() for node in ast.walk(tree) if isinstance(node, kind)]
+
+
+def own_methods():
+    return {part.name for name, node in nodes(ast.ClassDef) for part in node.body if isinstance(part, ast.FunctionDef)}
+
+
+def set_attributes():
+    return {node.attr for name, node in nodes(ast.Attribute) if isinstance(node.ctx, ast.Store)}
 
 
 class Interface(unittest.TestCase):
@@ -145,10 +165,31 @@ class Language(unittest.TestCase):
                 self.assertNotIn("%", node.value, (name, node.lineno))
 
     def test_no_name_is_both_a_method_and_an_attribute(self):
-        methods = {part.name for name, node in nodes(ast.ClassDef) for part in node.body
-                   if isinstance(part, ast.FunctionDef)}
-        set_ones = {node.attr for name, node in nodes(ast.Attribute) if isinstance(node.ctx, ast.Store)}
-        self.assertEqual(methods & set_ones, set())
+        self.assertEqual(own_methods() & set_attributes(), set())
+
+    def test_attributes_that_are_read_are_set_or_methods(self):
+        known = own_methods() | set_attributes() | set(BUILTIN_METHODS)
+        for name, node in nodes(ast.Attribute):
+            self.assertIn(node.attr, known, (name, node.lineno))
+
+    def test_no_local_name_is_that_of_a_class_or_an_import(self):
+        for name, tree in trees():
+            taken = {node.name for node in tree.body if isinstance(node, ast.ClassDef)}
+            taken |= {part.name for node in tree.body if isinstance(node, ast.ImportFrom) for part in node.names}
+            taken |= {node.name for node in tree.body if isinstance(node, ast.FunctionDef)}
+            for node in ast.walk(tree):
+                if isinstance(node, ast.arg):
+                    self.assertNotIn(node.arg, taken, name)
+                if isinstance(node, ast.Name) and isinstance(node.ctx, ast.Store):
+                    self.assertNotIn(node.id, taken, (name, node.lineno))
+
+    def test_each_import_is_from_the_file_that_defines_it(self):
+        for name, node in nodes(ast.ImportFrom):
+            body = ast.parse(source(node.module.split(".")[1] + ".py")).body
+            defined = [part.name for part in body if isinstance(part, (ast.FunctionDef, ast.ClassDef))]
+            defined += [part.targets[0].id for part in body if isinstance(part, ast.Assign)]
+            for part in node.names:
+                self.assertIn(part.name, defined, name)
 
 
 if __name__ == "__main__":
