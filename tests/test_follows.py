@@ -5,6 +5,7 @@ import itertools
 import unittest
 from random import Random
 
+from tests.model import each_demand, lacking, told_at_once, told_by_steps
 from tests.things import SIXTEEN, shelf_fields, shelf_of, some_shelves
 from unitwants.errors import Lack, NoUnit, UnitError
 from unitwants.follows import at_once, chain, clash_in, followed
@@ -16,43 +17,6 @@ MIXED = Shelf([
     Unit("net", needs=("disk",)), Unit("disk"), Unit("log", needs=("disk",), bars=("web",)),
     Unit("demo", needs=("net",), bars=("lost",)), Unit("gate", kind="door", opens="web", wants=("web",)),
     Unit("both", needs=("disk",), bars=("disk",))])
-
-
-def each_demand(shelf):
-    return [(name, way) for name in shelf.names() for way in ("off", "on")]
-
-
-def told_at_once(shelf, demand):
-    """What promise 8 says, asked of each two demands one by one."""
-    name, way = demand
-    told = []
-    for other in shelf.names():
-        unit, there = shelf.unit(name), shelf.unit(other)
-        if way == "on" and other in unit.needs:
-            told.append((other, "on"))
-        if way == "on" and (other in unit.bars or name in there.bars):
-            told.append((other, "off"))
-        if way == "off" and name in there.needs:
-            told.append((other, "off"))
-    return sorted(told)
-
-
-def told_by_steps(shelf, demands):
-    """All that follows, by how many steps it is away."""
-    steps = {}
-    front = set(demands)
-    far = 0
-    while front:
-        steps.update({demand: far for demand in front})
-        front = {other for demand in front for other in told_at_once(shelf, demand)} - set(steps)
-        far += 1
-    return steps
-
-
-def lacking(shelf, followers):
-    """Each (unit, missing) of units that follow with "on"."""
-    return {(name, other) for name, way in followers if way == "on"
-            for other in shelf.unit(name).needs if not shelf.has(other)}
 
 
 def some_demands(source, shelf):

@@ -5,29 +5,12 @@ import itertools
 import unittest
 from random import Random
 
+from tests.model import knotted, waits_for
 from tests.things import SIXTEEN, shelf_fields, shelf_of, some_shelves
 from unitwants.errors import Knot, UnitError
 from unitwants.knots import knot_in, order_of
 from unitwants.shelves import Shelf
 from unitwants.units import Unit
-
-
-def waits_for(shelf, name, other):
-    """What promise 6 says, asked of two names."""
-    one, two = shelf.unit(name), shelf.unit(other)
-    return other in one.needs or other in one.after or (two.kind == "door" and two.opens == name)
-
-
-def knotted(shelf, names):
-    """Whether one of the names comes back to itself, by ways through the names alone."""
-    for start in names:
-        front, seen = [start], []
-        while front:
-            front = [other for other in names if other not in seen and any(waits_for(shelf, n, other) for n in front)]
-            seen.extend(front)
-        if start in seen:
-            return True
-    return False
 
 
 def is_right_order(shelf, names, order):

@@ -20,6 +20,9 @@ INTERFACE = {
     "texts": (("show_unit", "show_shelf", "read_unit", "read_shelf"), {}),
     "follows": (("at_once", "followed", "chain", "clash_in"), {}),
     "knots": (("knot_in", "order_of"), {}),
+    "stands": (("fits", "open_in"), {"Stand": ("__init__", "__eq__")}),
+    "plans": (("plan_on", "plan_off", "behind"), {"Plan": ("__init__", "__len__")}),
+    "papers": (("paper_on",), {}),
 }
 
 BARRED_WORDS = (

@@ -2,8 +2,10 @@
 
 from random import Random
 
+from tests.model import stand_fits
 from unitwants.rules import Rule
 from unitwants.shelves import Shelf
+from unitwants.stands import Stand
 from unitwants.units import Unit
 
 NO_TEXTS = (
@@ -52,3 +54,40 @@ def some_shelves(seed, count, *, most=2, names=("a", "b", "c", "d", "e", "f", "g
         there = source.sample(names, source.randint(2, len(names)))
         told = [*there, *(strange if turn % 2 else ())]
         yield Shelf([some_unit(source, name, told, most=most) for name in there])
+
+
+def four(stand):
+    return (stand.wished, stand.up, stand.later, stand.back)
+
+
+def some_of(source, names, most):
+    return source.sample(names, source.randint(0, min(most, len(names))))
+
+
+def with_needs(shelf, names):
+    """The names and all that they need, as far as it is on the shelf."""
+    found = set(names)
+    while True:
+        more = {other for name in found for other in shelf.unit(name).needs if shelf.has(other)} - found
+        if not more:
+            return found
+        found |= more
+
+
+def any_stand(source, shelf):
+    """A stand of names on the shelf that may fit it or not."""
+    names = shelf.names()
+    later, back = some_of(source, names, 2), some_of(source, names, 3)
+    wished = with_needs(shelf, some_of(source, names, 3) + later) - set(later) - set(back)
+    up = some_of(source, names, len(names))
+    return Stand(**{word: tuple(sorted(told)) for word, told in
+                    (("wished", wished), ("up", up), ("later", later), ("back", back))})
+
+
+def some_stand(source, shelf):
+    """A stand that fits the shelf, if need be the empty one."""
+    for turn in range(20):
+        stand = any_stand(source, shelf)
+        if stand_fits(shelf, stand):
+            return stand
+    return Stand()

@@ -1,0 +1,139 @@
+"""The promises written another way, by the fields of units alone, to be compared with what the program tells."""
+
+
+def each_demand(shelf):
+    return [(name, way) for name in shelf.names() for way in ("off", "on")]
+
+
+def told_at_once(shelf, demand):
+    """What promise 8 says, asked of each two demands one by one."""
+    name, way = demand
+    told = []
+    for other in shelf.names():
+        unit, there = shelf.unit(name), shelf.unit(other)
+        if way == "on" and other in unit.needs:
+            told.append((other, "on"))
+        if way == "on" and (other in unit.bars or name in there.bars):
+            told.append((other, "off"))
+        if way == "off" and name in there.needs:
+            told.append((other, "off"))
+    return sorted(told)
+
+
+def told_by_steps(shelf, demands):
+    """All that follows, by how many steps it is away."""
+    steps = {}
+    front = set(demands)
+    far = 0
+    while front:
+        steps.update({demand: far for demand in front})
+        front = {other for demand in front for other in told_at_once(shelf, demand)} - set(steps)
+        far += 1
+    return steps
+
+
+def lacking(shelf, followers):
+    """Each (unit, missing) of units that follow with "on"."""
+    return {(name, other) for name, way in followers if way == "on"
+            for other in shelf.unit(name).needs if not shelf.has(other)}
+
+
+def waits_for(shelf, name, other):
+    """What promise 6 says, asked of two names."""
+    one, two = shelf.unit(name), shelf.unit(other)
+    return other in one.needs or other in one.after or (two.kind == "door" and two.opens == name)
+
+
+def knotted(shelf, names):
+    """Whether one of the names comes back to itself, by ways through the names alone."""
+    for start in names:
+        front, seen = [start], []
+        while front:
+            front = [other for other in names if other not in seen and any(waits_for(shelf, n, other) for n in front)]
+            seen.extend(front)
+        if start in seen:
+            return True
+    return False
+
+
+def barred_with(shelf, one, other):
+    return other in shelf.unit(one).bars or one in shelf.unit(other).bars
+
+
+def stand_fits(shelf, stand):
+    """What promise 10 says, each part by itself."""
+    wished, up, later, back = (set(names) for names in (stand.wished, stand.up, stand.later, stand.back))
+    if not wished | up | later | back <= set(shelf.names()):
+        return False
+    if wished & later or wished & back or later & back:
+        return False
+    for name in wished | later:
+        if not set(shelf.unit(name).needs) <= wished:
+            return False
+        if any(barred_with(shelf, name, other) for other in wished | later | back):
+            return False
+    return not knotted(shelf, sorted(wished - up))
+
+
+def wants_told(shelf, stand, name):
+    """The wants of a unit as promise 13 tells them."""
+    wants = list(shelf.unit(name).wants)
+    for other in sorted(stand.back):
+        if name in shelf.unit(other).needs and other not in wants:
+            wants.append(other)
+    return wants
+
+
+def words_told(shelf, stand, plan, wanted):
+    """All words of promise 13 that are true, in their order; "lack" alone where it is."""
+    if not shelf.has(wanted):
+        return ["lack"]
+    come = set(told_by_steps(shelf, set(plan) | {(wanted, "on")}))
+    if lacking(shelf, come):
+        return ["lack"]
+    on, off = ({name for name, way in come if way == turn} for turn in ("on", "off"))
+    new_on, new_off = ({name for name, way in come - set(plan) if way == turn} for turn in ("on", "off"))
+    words = ["clash"] if on & off else []
+    words += ["early"] if new_on & set(stand.later) else []
+    words += ["takes"] if new_off & {*stand.wished, *stand.later, *stand.back} else []
+    words += ["knot"] if knotted(shelf, sorted((on | (set(stand.wished) - off)) - set(stand.up))) else []
+    return words
+
+
+def behind_told(stand, demands):
+    """The four tuples of the stand behind demands, as promise 14 tells them."""
+    on, off = ({name for name, way in demands if way == turn} for turn in ("on", "off"))
+    sets = ((set(stand.wished) | on) - off, set(stand.up), set(stand.later) - on - off, set(stand.back) - on - off)
+    return tuple(tuple(sorted(names)) for names in sets)
+
+
+def wants_looked_at(shelf, stand, plan):
+    """The plan with the wants taken, and those dropped, as promise 13 tells."""
+    plan, dropped, looked = set(plan), [], []
+    while True:
+        left = [(name, at, wanted) for name, way in plan if way == "on"
+                for at, wanted in enumerate(wants_told(shelf, stand, name)) if (name, wanted) not in looked]
+        if not left:
+            return plan, dropped
+        name, at, wanted = min(left)
+        looked.append((name, wanted))
+        if (wanted, "on") not in plan:
+            words = words_told(shelf, stand, plan, wanted)
+            if words:
+                dropped.append((name, wanted, words[0]))
+            else:
+                plan = set(told_by_steps(shelf, plan | {(wanted, "on")}))
+
+
+def plan_told(shelf, stand, name):
+    """The first word of the paper, and what is told behind it: the least name of a clash, a plan and those dropped."""
+    core = set(told_by_steps(shelf, [(name, "on")]))
+    if lacking(shelf, core):
+        return "lack", None
+    both = [other for other, way in core if way == "on" and (other, "off") in core]
+    if both:
+        return "clash", min(both)
+    wished, up, later, back = behind_told(stand, core)
+    if knotted(shelf, sorted(set(wished) - set(up))):
+        return "knot", None
+    return "plan", wants_looked_at(shelf, stand, core)
