@@ -137,3 +137,96 @@ def plan_told(shelf, stand, name):
     if knotted(shelf, sorted(set(wished) - set(up))):
         return "knot", None
     return "plan", wants_looked_at(shelf, stand, core)
+
+
+def plans_in_any_order(shelf, stand, name):
+    """The demands of each plan to which wants are put one after another, in whatever order, until none can be."""
+    word, told = plan_told(shelf, stand, name)
+    if word != "plan":
+        return set()
+    front, seen, ends = [frozenset(told_by_steps(shelf, [(name, "on")]))], set(), set()
+    while front:
+        plan = front.pop()
+        if plan in seen:
+            continue
+        seen.add(plan)
+        wanted = {want for other, way in plan if way == "on" for want in wants_told(shelf, stand, other)}
+        fitting = [want for want in wanted if (want, "on") not in plan and not words_told(shelf, stand, plan, want)]
+        front.extend(frozenset(told_by_steps(shelf, plan | {(want, "on")})) for want in fitting)
+        if not fitting:
+            ends.add(plan)
+    return ends
+
+
+def is_of(thing, kinds):
+    """Whether it is a tuple of as many parts as there are kinds, each just of its kind."""
+    return type(thing) is tuple and len(thing) == len(kinds) and all(type(part) is kind for part, kind in zip(thing, kinds))
+
+
+def are_of(thing, kinds):
+    return type(thing) is tuple and all(is_of(part, kinds) for part in thing)
+
+
+def is_told_chain(shelf, links, first):
+    return (are_of(links, (str, str)) and len(links) > 0 and links[0] == first
+            and all(shelf.has(link[0]) for link in links)
+            and all(other in told_at_once(shelf, one) for one, other in zip(links, links[1:])))
+
+
+def is_told_plan(shelf, stand, name, demands, dropped, order):
+    """Whether it is one of the plans in any order, with right causes, true words and a right order."""
+    if not are_of(demands, (str, str, int)) or not are_of(dropped, (str, str, str)) or type(order) is not tuple:
+        return False
+    plan = {row[:2] for row in demands}
+    if len(plan) != len(demands) or plan not in plans_in_any_order(shelf, stand, name):
+        return False
+    if demands[0] != (name, "on", -1):
+        return False
+    for at, (other, way, cause) in enumerate(demands[1:], 1):
+        if not 0 <= cause < at:
+            return False
+        asker, turn, earlier = demands[cause]
+        follows = (other, way) in told_at_once(shelf, (asker, turn))
+        if not follows and not (way == turn == "on" and other in wants_told(shelf, stand, asker)):
+            return False
+    left = [(other, want) for other, way in plan if way == "on" for want in wants_told(shelf, stand, other)
+            if (want, "on") not in plan]
+    if sorted(row[:2] for row in dropped) != sorted(left):
+        return False
+    if not all(word in words_told(shelf, stand, plan, want) for asker, want, word in dropped):
+        return False
+    wished, up, later, back = behind_told(stand, plan)
+    if not all(type(part) is str for part in order) or sorted(order) != sorted(set(wished) - set(up)):
+        return False
+    return not any(waits_for(shelf, one, other) for at, one in enumerate(order) for other in order[at:])
+
+
+def is_told_ring(shelf, stand, name, ring):
+    core = told_by_steps(shelf, [(name, "on")])
+    if lacking(shelf, core) or any((other, "off") in core and way == "on" for other, way in core):
+        return False
+    if type(ring) is not tuple or len(ring) < 2 or not all(type(part) is str for part in ring):
+        return False
+    wished, up, later, back = behind_told(stand, core)
+    return (len(set(ring)) == len(ring) and set(ring) <= set(wished) - set(up)
+            and all(waits_for(shelf, ring[at - 1], ring[at]) for at in range(len(ring))))
+
+
+def paper_is_so(shelf, stand, paper):
+    """What promises 15 and 16 say, by going through all plans."""
+    if type(paper) is not tuple or len(paper) < 2 or type(paper[1]) is not str or not shelf.has(paper[1]):
+        return False
+    word, name, *parts = paper
+    first = (name, "on")
+    if word == "plan" and len(parts) == 3:
+        return is_told_plan(shelf, stand, name, *parts)
+    if word == "knot" and len(parts) == 1:
+        return is_told_ring(shelf, stand, name, *parts)
+    if word == "clash" and len(parts) == 2:
+        return (all(is_told_chain(shelf, links, first) for links in parts) and parts[0][-1][0] == parts[1][-1][0]
+                and (parts[0][-1][1], parts[1][-1][1]) == ("on", "off"))
+    if word == "lack" and len(parts) == 2:
+        links, missing = parts
+        return (is_told_chain(shelf, links, first) and links[-1][1] == "on" and type(missing) is str
+                and missing in shelf.unit(links[-1][0]).needs and not shelf.has(missing))
+    return False

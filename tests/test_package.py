@@ -23,6 +23,12 @@ INTERFACE = {
     "stands": (("fits", "open_in"), {"Stand": ("__init__", "__eq__")}),
     "plans": (("plan_on", "plan_off", "behind"), {"Plan": ("__init__", "__len__")}),
     "papers": (("paper_on",), {}),
+    "looker": (("holds",), {}),
+    "machines": ((), {"Machine": (
+        "__init__", "turn_on", "turn_off", "begin", "ended", "died", "put", "wake", "knock", "state", "wish", "due",
+        "falls", "kept", "ready", "rows", "stand", "shelf", "last_tick")}),
+    "ends": (("told_by", "foretold"), {}),
+    "console": ((), {"Console": ("__init__", "say", "run")}),
 }
 
 BARRED_WORDS = (
