@@ -230,3 +230,31 @@ def paper_is_so(shelf, stand, paper):
         return (is_told_chain(shelf, links, first) and links[-1][1] == "on" and type(missing) is str
                 and missing in shelf.unit(links[-1][0]).needs and not shelf.has(missing))
     return False
+
+
+def stands_told(shelf, states, name, path=()):
+    """Whether the unit stands, as promise 17 tells; one that needs itself at some remove never does."""
+    if name in path or states.get(name) not in ("starting", "on"):
+        return False
+    needs = shelf.unit(name).needs
+    return all(states.get(other) == "on" and stands_told(shelf, states, other, (*path, name)) for other in needs)
+
+
+def ready_told(shelf, states, wishes):
+    """What is ready, as promise 18 tells."""
+    told = []
+    for name in shelf.names():
+        unit = shelf.unit(name)
+        needing = [other for other in shelf.names() if name in shelf.unit(other).needs]
+        barred = [other for other in shelf.names() if barred_with(shelf, name, other)]
+        others = [other for other in shelf.names() if waits_for(shelf, name, other) and other not in unit.needs]
+        firm = {other for other in shelf.names() if states[other] == "on" and stands_told(shelf, states, other)}
+        if states[name] in ("starting", "on"):
+            unwished = wishes[name] != "on" or not stands_told(shelf, states, name)
+            if unwished and {states[other] for other in needing} <= {"off"}:
+                told.append(("stop", name))
+        if states[name] == "off" and wishes[name] == "on" and set(unit.needs) <= firm:
+            waited = [other for other in others if other not in firm and wishes[other] == "on"]
+            if not waited and {states[other] for other in needing + barred} <= {"off"}:
+                told.append(("start", name))
+    return sorted(told)
