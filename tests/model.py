@@ -160,7 +160,7 @@ def plans_in_any_order(shelf, stand, name):
 
 def is_of(thing, kinds):
     """Whether it is a tuple of as many parts as there are kinds, each just of its kind."""
-    return type(thing) is tuple and len(thing) == len(kinds) and all(type(part) is kind for part, kind in zip(thing, kinds))
+    return type(thing) is tuple and [type(part) for part in thing] == list(kinds)
 
 
 def are_of(thing, kinds):

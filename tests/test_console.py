@@ -57,9 +57,11 @@ NO_NUMBERS = ("", "-1", "+1", "01", "00", "1.0", "1e3", "0x1", "1_0", "one", "10
 NO_WORDS = ("", "A", "aB", "a1", "1", "a-b", "a_b", "abcdefghi", "a" * 1900, "~", "a.", "-", "+a")
 STRANGE_ROWS = (
     "", " ", "on", "on a", "on a 1 1", "on 1 a", "on a b", "off", "begin a", "good 1", "bad a 1 2", "died", "knock d",
-    "wake", "wake a", "wake 1 2", "wake a 1", "state", "state a 1", "state a b", "ready a", "ready 1", "rows 1", "rows a",
+    "wake", "wake a", "wake 1 2", "wake a 1", "state", "state a 1", "state a b", "ready a", "ready 1", "rows 1",
+    "rows a",
     "why", "why a 1", "kept", "kept d 1", "On a 1", "ON a 1", "onn a 1", "put a 1", "ended a 1", "turn a 1", "no", "ok",
-    "wish a", "due a", "falls a", "stand", "shelf", "run", "say", "tick 1", "on a 1\n", "\non a 1", "on a\n1", "on\na 1",
+    "wish a", "due a", "falls a", "stand", "shelf", "run", "say", "tick 1", "on a 1\n", "\non a 1", "on a\n1",
+    "on\na 1",
     "ready\n", "\nready", "ready\nready", "on a 1\non b 1", "rows\n", "on,a,1", "on a 1;", "[]", "None")
 
 
@@ -159,7 +161,8 @@ class Answers(ConsoleCase):
                          ("on d 0", "+d"), ("on b 0", "+b"), ("ready", "start:b start:d stop:c"))
 
     def test_wake_names(self):
-        text = "\n\n".join(f"unit {name} work\nrule {first} 2 64 5 100" for name, first in (("a", 9), ("b", 3), ("c", 3)))
+        firsts = (("a", 9), ("b", 3), ("c", 3))
+        text = "\n\n".join(f"unit {name} work\nrule {first} 2 64 5 100" for name, first in firsts)
         console = Console(text)
         for name in "abc":
             console.run([f"on {name} 1", f"begin {name} 1", f"bad {name} 1"])
@@ -236,8 +239,8 @@ class NoRows(ConsoleCase):
         console = Console(TEXT)
         for word, parts in FORMS.items():
             row = f"{word} {parts}".replace("name", "a").replace("tick", "1").strip()
-            for spoilt in (" " + row, row + " ", row + "\n", "\n" + row, row + "  ", row + " \n", row.replace(" ", "\n"),
-                           row.replace(" ", "  "), row.replace(" ", "  ", 1), row + " x", row + " 1"):
+            for spoilt in (" " + row, row + " ", row + "\n", "\n" + row, row + "  ", row + " \n",
+                           row.replace(" ", "\n"), row.replace(" ", "  "), row.replace(" ", "  ", 1), row + " x", row + " 1"):
                 if spoilt != row:
                     self.assert_refused(NoRow, console, spoilt)
 
@@ -313,7 +316,8 @@ class Runs(ConsoleCase):
                         console.run([*rows[:at], refused, *rows[at:]], **stop)
                     self.assertIs(type(caught.exception), kind)
                     self.assertEqual((console.runs, console.said), (1, at))
-                    self.assertEqual(console.say("state b"), ("off off", "off on", "off on", "off on", "starting on")[at])
+                    states = ("off off", "off on", "off on", "off on", "starting on")
+                    self.assertEqual(console.say("state b"), states[at])
 
     def test_a_refusal_at_each_place_where_stop_is_false(self):
         rows = ["on b 1", "ready", "begin b 1", "state b"]

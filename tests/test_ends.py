@@ -83,7 +83,8 @@ class Rows(MachineCase):
                          [(2, "down", "a", 0), (2, "fell", "a", 5), (2, "later", "a", 7), (2, "back", "b", 0)])
 
     def test_knocks(self):
-        machine = machine_of(door("d", "b"), Unit("b", needs=("c",)), Unit("c", wants=("a",)), Unit("a"), door("e", "x"))
+        machine = machine_of(door("d", "b"), Unit("b", needs=("c",)), Unit("c", wants=("a",)), Unit("a"),
+                             door("e", "x"))
         bring_up(machine, "d", "e")
         self.assert_rows(machine, lambda m: m.knock("d", tick=1),
                          [(1, "on", "a", 0), (1, "on", "b", 0), (1, "on", "c", 0), (1, "kept", "d", 1)])
@@ -143,8 +144,8 @@ class Rows(MachineCase):
                           (5, "woken", "b", 0), (5, "on", "b", 0), (5, "on", "c", 0)])
 
     def test_stuck(self):
-        machine = machine_of(Unit("a", rule=Rule(first=4), after=("b",)), Unit("b", after=("a",)), Unit("c", needs=("a",)),
-                             Unit("e", rule=Rule(first=9)))
+        machine = machine_of(Unit("a", rule=Rule(first=4), after=("b",)), Unit("b", after=("a",)),
+                             Unit("c", needs=("a",)), Unit("e", rule=Rule(first=9)))
         bring_up(machine, "c", "e")
         machine.died("a", tick=1)
         machine.died("e", tick=1)

@@ -200,8 +200,9 @@ class Waking(MachineCase):
         self.assertEqual(wishes(machine), {"a": "on", "b": "on", "c": "on"})
 
     def test_a_waking_that_is_refused(self):
-        # b is put so that it comes behind a, and a behind it; wished for while a is away, it bars a's waking.
-        machine = machine_of(Unit("a", rule=Rule(first=4), after=("b",)), Unit("b", after=("a",)), Unit("c", needs=("a",)))
+        # a and b come behind each other; wished for while a is away, b bars its waking.
+        machine = machine_of(Unit("a", rule=Rule(first=4), after=("b",)), Unit("b", after=("a",)),
+                             Unit("c", needs=("a",)))
         bring_up(machine, "c")
         machine.died("a", tick=1)
         machine.turn_on("b", tick=1)

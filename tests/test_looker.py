@@ -68,8 +68,8 @@ def wanting_shelf(source):
     units = []
     for name in names:
         others = [other for other in names if other != name]
-        lists = {word: tuple(source.sample(others, source.choice(many)))
-                 for word, many in (("needs", (0, 0, 0, 1)), ("wants", (0, 2, 3)), ("bars", (0, 0, 1)), ("after", (0, 1)))}
+        lists = {word: tuple(source.sample(others, source.choice(many))) for word, many in (
+            ("needs", (0, 0, 0, 1)), ("wants", (0, 2, 3)), ("bars", (0, 0, 1)), ("after", (0, 1)))}
         units.append(Unit(name, **lists))
     return Shelf(units)
 
@@ -155,7 +155,8 @@ class PlanPapers(LookerCase):
 
     def test_a_want_is_a_cause_of_on_alone(self):
         shelf = Shelf([Unit("a", wants=("b",)), Unit("b")])
-        self.assert_not(shelf, Stand(), ("plan", "a", (("a", "on", -1), ("b", "off", 0)), (("a", "b", "clash"),), ("a",)))
+        rows = (("a", "on", -1), ("b", "off", 0))
+        self.assert_not(shelf, Stand(), ("plan", "a", rows, (("a", "b", "clash"),), ("a",)))
 
     def test_those_in_back_are_wants(self):
         shelf = shelf_of(a="", b="a", c="b")
@@ -163,7 +164,8 @@ class PlanPapers(LookerCase):
         order = ("a", "b", "c")
         self.assert_so(shelf, Stand(back=("b", "c")), ("plan", "a", rows, (), order))
         self.assert_so(shelf, Stand(back=("b",)), ("plan", "a", rows[:2], (), order[:2]))
-        self.assert_not(shelf, Stand(back=("b",)), ("plan", "a", rows, (), order), ("plan", "a", rows[:1], (), order[:1]))
+        self.assert_not(shelf, Stand(back=("b",)), ("plan", "a", rows, (), order),
+                        ("plan", "a", rows[:1], (), order[:1]))
         self.assert_not(shelf, Stand(), ("plan", "a", rows[:2], (), order[:2]))
 
     def test_other_true_words(self):
@@ -266,7 +268,8 @@ class RefusalPapers(LookerCase):
                        Unit("d", needs=("z",))])
         a, b, c, d = ("a", "on"), ("b", "on"), ("c", "on"), ("d", "off")
         self.assert_so(shelf, Stand(), ("lack", "a", (a,), "x"), ("lack", "a", (a, b), "y"),
-                       ("lack", "a", (a, c, a, b), "y"), ("lack", "a", (a, c, a, c, a), "x"), ("lack", "c", (c, a), "x"))
+                       ("lack", "a", (a, c, a, b), "y"), ("lack", "a", (a, c, a, c, a), "x"),
+                       ("lack", "c", (c, a), "x"))
         self.assert_not(
             shelf, Stand(), ("lack", "a", (a,), "y"), ("lack", "a", (a, b), "x"), ("lack", "a", (b,), "y"),
             ("lack", "b", (a, b), "y"), ("lack", "a", (a, d), "z"), ("lack", "a", (a, c, d), "z"),

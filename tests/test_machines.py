@@ -76,12 +76,11 @@ class Making(MachineCase):
 
 
 class Arguments(MachineCase):
+    TICK = {"tick": inspect.Parameter.empty}
     FORMS = {
-        "turn_on": (["name"], {"tick": inspect.Parameter.empty}), "turn_off": (["name"], {"tick": inspect.Parameter.empty}),
-        "begin": (["name"], {"tick": inspect.Parameter.empty}),
-        "ended": (["name"], {"tick": inspect.Parameter.empty, "good": True}),
-        "died": (["name"], {"tick": inspect.Parameter.empty}), "put": (["unit"], {"tick": inspect.Parameter.empty}),
-        "wake": ([], {"tick": inspect.Parameter.empty}), "knock": (["name"], {"tick": inspect.Parameter.empty}),
+        "turn_on": (["name"], TICK), "turn_off": (["name"], TICK), "begin": (["name"], TICK),
+        "ended": (["name"], {**TICK, "good": True}), "died": (["name"], TICK), "put": (["unit"], TICK),
+        "wake": ([], TICK), "knock": (["name"], TICK),
         "state": (["name"], {}), "wish": (["name"], {}), "due": (["name"], {}), "falls": (["name"], {}),
         "kept": (["name"], {}), "ready": ([], {}), "rows": ([], {}), "stand": ([], {}), "shelf": ([], {}),
         "last_tick": ([], {})}

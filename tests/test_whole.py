@@ -277,7 +277,8 @@ class Stories(MachineCase):
         counts = {"kept": 0, "handed": 0, "lost": 0, "missed": 0}
         for source, before, machine, word, told, tick, answer in self.stories(80):
             for name in machine.shelf().names():
-                sums = {row_word: sum(row[3] for row in machine.rows() if row[1:3] == (row_word, name)) for row_word in counts}
+                sums = {told_word: sum(row[3] for row in machine.rows() if row[1:3] == (told_word, name))
+                        for told_word in counts}
                 self.assertEqual(sums["kept"], sums["handed"] + sums["lost"] + machine.kept(name))
                 self.assertTrue(0 <= machine.kept(name) <= machine.room)
                 opened = machine.shelf().unit(name).opens
@@ -340,7 +341,7 @@ class Stories(MachineCase):
     def test_the_same_each_time(self):
         ends = []
         for turn in range(2):
-            ends.append([snapshot(machine) for source, before, machine, word, told, tick, answer in self.stories(3)][-1])
+            ends.append([snapshot(story[2]) for story in self.stories(3)][-1])
         self.assertEqual(ends[0], ends[1])
 
 
@@ -415,7 +416,8 @@ class Plans(unittest.TestCase):
     def test_what_is_written_is_read_as_the_same(self):
         for shelf, stand, name in self.each():
             again = read_shelf(show_shelf(shelf))
-            self.assertEqual([again.unit(other) for other in again.names()], [shelf.unit(other) for other in shelf.names()])
+            self.assertEqual([again.unit(other) for other in again.names()],
+                             [shelf.unit(other) for other in shelf.names()])
             self.assertEqual(paper_on(again, stand, name), paper_on(shelf, stand, name))
 
 
