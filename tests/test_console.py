@@ -240,7 +240,8 @@ class NoRows(ConsoleCase):
         for word, parts in FORMS.items():
             row = f"{word} {parts}".replace("name", "a").replace("tick", "1").strip()
             for spoilt in (" " + row, row + " ", row + "\n", "\n" + row, row + "  ", row + " \n",
-                           row.replace(" ", "\n"), row.replace(" ", "  "), row.replace(" ", "  ", 1), row + " x", row + " 1"):
+                           row.replace(" ", "\n"), row.replace(" ", "  "), row.replace(" ", "  ", 1), row + " x",
+                           row + " 1"):
                 if spoilt != row:
                     self.assert_refused(NoRow, console, spoilt)
 

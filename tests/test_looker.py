@@ -214,6 +214,21 @@ class PlanPapers(LookerCase):
         self.assert_so(shelf, Stand(), (
             "plan", "d", (("d", "on", -1), ("b", "on", 0), ("w", "off", 1), ("l", "on", 1)), (), ("d", "l", "b")))
 
+    def test_a_want_turns_off_none_that_is_wished_later_or_back(self):
+        shelf = Shelf([Unit("a", wants=("b",)), Unit("b", bars=("c",)), Unit("c"), Unit("d", needs=("c",))])
+        rows = (("a", "on", -1), ("b", "on", 0), ("c", "off", 1), ("d", "off", 2))
+        left = ("plan", "a", rows[:1], (("a", "b", "takes"),), ("a",))
+        self.assert_so(shelf, Stand(), ("plan", "a", rows, (), ("a", "b")))
+        self.assert_not(shelf, Stand(), left)
+        for stand in (Stand(later=("c",)), Stand(back=("c",)), Stand(back=("d",)), Stand(back=("c", "d"))):
+            self.assert_so(shelf, stand, left)
+            self.assert_not(shelf, stand, ("plan", "a", rows, (), ("a", "b")))
+        self.assert_so(shelf, Stand(wished=("c",), up=("c",)), left)
+        self.assert_not(shelf, Stand(wished=("c",), up=("c",)), ("plan", "a", rows, (), ("a", "b")))
+        core = Shelf([Unit("a", wants=("b",), bars=("c",)), *[shelf.unit(name) for name in "bcd"]])
+        for stand in (Stand(later=("c",)), Stand(back=("c", "d")), Stand(wished=("c", "d"))):
+            self.assert_so(core, stand, ("plan", "a", rows, (), ("a", "b")))
+
     def test_orders(self):
         shelf = Shelf([Unit("a", needs=("b",), after=("c",)), Unit("b"), Unit("c"), Unit("d")])
         stand = Stand(wished=("c", "d"), up=("d",))
